@@ -1,0 +1,1 @@
+"""Wirechannel: wires between two rows of pins."""
