@@ -3,29 +3,10 @@ import itertools
 import random
 import unittest
 
-from making import at_once, good_channels
+from making import at_once, good_channels, is_ring, next_of, next_two, ring_over, shuffled, some_above
 from wirechannel.above import above_of
 from wirechannel.pieces import pieces_of
 from wirechannel.ranks import chain_of, ranked
-
-
-def next_of(count):
-    return [(number, number + 1, number % 40) for number in range(count - 1)]
-
-
-def next_two(count):
-    return next_of(count) + [(number, number + 2, 0) for number in range(count - 2)]
-
-
-def ring_over(numbers):
-    numbers = list(numbers)
-    return [(number, after, place) for place, (number, after) in enumerate(zip(numbers, numbers[1:] + numbers[:1]))]
-
-
-def shuffled(members, seed=5):
-    members = list(members)
-    random.Random(seed).shuffle(members)
-    return members
 
 
 # Which pieces must lie, in one step or several, below which.
@@ -35,20 +16,6 @@ def beneath(count, above):
         if middle in below[upper]:
             below[upper] |= below[middle]
     return below
-
-
-# Lists of triples with and without rings, the same ones at each call.
-def some_above(count, seed):
-    chance = random.Random(seed)
-    names = shuffled(range(count), seed)
-    triples = []
-    for turn in range(chance.randint(0, 2 * count)):
-        p, q = sorted([chance.randrange(count), chance.randrange(count)])
-        if p < q:
-            triples.append((names[p], names[q], chance.randint(-1, 40)))
-    if count and chance.random() < 0.4:
-        triples.append((chance.randrange(count), chance.randrange(count), 0))
-    return shuffled(triples, seed)
 
 
 class RankedCase(unittest.TestCase):
@@ -75,12 +42,7 @@ class RankedCase(unittest.TestCase):
 
     def check_ring(self, count, above, length=None):
         ring = self.asked("ring", count, above)
-        self.assertGreater(len(ring), 0)
-        for place, triple in enumerate(ring):
-            self.assertIs(type(triple), tuple)
-            self.assertIn(triple, above)
-            self.assertEqual(triple[1], ring[(place + 1) % len(ring)][0])
-        self.assertEqual(len({triple[0] for triple in ring}), len(ring))
+        self.assertTrue(is_ring(ring, above), ring)
         if length is not None:
             self.assertEqual(len(ring), length)
         return ring
