@@ -6,8 +6,13 @@ import random
 import signal
 import unittest
 
+from wirechannel.above import above_of
 from wirechannel.channels import Channel
 from wirechannel.errors import NoOrder, WireError
+from wirechannel.layouts import Layout
+from wirechannel.packing import by_levels, by_rows
+from wirechannel.pieces import pieces_of
+from wirechannel.ranks import ranked
 
 
 def made(top, bottom, left=(), right=(), wide=(), bends=(), keeps=()):
@@ -135,6 +140,194 @@ def is_ring(ring, above):
     return follow and once and all(type(triple) is tuple and triple in above for triple in ring)
 
 
+def with_tracks(channel, bent, tracks):
+    pieces = pieces_of(channel, bent)
+    return Layout(channel, bent, pieces, above_of(channel, pieces), tracks)
+
+
+# Layouts of this channel that are sound: by levels and by rows, straight and bent, with free tracks or without.
+def sound_layouts(channel, chance):
+    layouts = []
+    for bent in (False, True):
+        pieces = pieces_of(channel, bent)
+        above = above_of(channel, pieces)
+        rank, levels = ranked(len(pieces), above)
+        if rank == "levels":
+            for tracks in (by_levels(pieces, levels), by_rows(pieces, above)):
+                layouts.append(Layout(channel, bent, pieces, above, tracks))
+                layouts.append(Layout(channel, bent, pieces, above, parted(tracks, chance)))
+    return layouts
+
+
+# The same tracks with some free ones put in: what lay above something lies above it still.
+def parted(tracks, chance):
+    moved = {}
+    more = 0
+    for track in sorted(set(tracks)):
+        more += chance.choice([0, 0, 1, 4])
+        moved[track] = track + more
+    return [moved[track] for track in tracks]
+
+
+NEW_NAMES = ["aaa", "abc", "bb", "cc", "keep", "left", "m", "n", "next", "yy", "z", "zz"]
+
+
+# A net that may be put into this channel, or be refused: its NAME, pins, sides and width.
+def some_net(channel, chance):
+    names = {name for name in channel.top + channel.bottom + channel.left + channel.right if name}
+    name = chance.choice([name for name in NEW_NAMES if name not in names])
+    free = [("top", column) for column, pin in enumerate(channel.top) if pin is None]
+    free += [("bottom", column) for column, pin in enumerate(channel.bottom) if pin is None]
+    if chance.random() < 0.9:
+        bent = [column for column, bent_name in channel.bends]
+        free = [pin for pin in free if pin[1] not in bent]
+    facing = [pin for pin in free if (channel.top[pin[1]] or channel.bottom[pin[1]])]
+    if len(facing) > 1 and chance.random() < 0.7:
+        free = facing
+    pins = chance.sample(free, min(len(free), chance.choice([0, 1, 2, 2, 2, 3, 5])))
+    if chance.random() < 0.1:
+        both = [column for side, column in free if side == "top" and ("bottom", column) in free]
+        pins = [(side, column) for column in both[:1] for side in ("top", "bottom")]
+    left = not pins or chance.random() < 0.2
+    return (name, pins, left, chance.random() < 0.2, chance.choice([1, 1, 2, 3]))
+
+
+PRINTED = [chr(code) for code in range(ord(" "), ord("~") + 1)]
+ACROSS = "-+#"
+UPRIGHT = "|+#"
+
+
+# Point 21: whether a text is a drawing, sign by sign.
+def is_due(text):
+    rows = text.split("\n")
+    length = len(rows[0])
+    if len(rows) % 2 == 0 or length % 2 == 0 or length < 3 or {len(row) for row in rows} != {length}:
+        return False
+    places = [(row, sign) for row in range(len(rows)) for sign in range(length)]
+    return all(may_stand(rows, row, sign) for row, sign in places)
+
+
+def may_stand(rows, row, sign):
+    mark = rows[row][sign]
+    may = {(0, 0): " ", (0, 1): " |", (1, 0): " -", (1, 1): " -|+#"}[row % 2, sign % 2]
+    if mark not in may:
+        return False
+    if mark == "-" and sign % 2 == 0:
+        return all(rows[row][beside] in ACROSS for beside in (sign - 1, sign + 1) if 0 <= beside < len(rows[0]))
+    if mark == "|" and row % 2 == 0:
+        return all(rows[beside][sign] in UPRIGHT for beside in (row - 1, row + 1) if 0 <= beside < len(rows))
+    return True
+
+
+# Point 21: what a drawing joins, step by step from each of its ends.
+def due_groups(text):
+    rows = text.split("\n")
+    ends = due_ends(rows)
+    groups = []
+    for end, place in ends.items():
+        reached = reached_from(rows, place)
+        group = sorted(other for other, at in ends.items() if at in reached)
+        if group not in groups:
+            groups.append(group)
+    return sorted(groups)
+
+
+def due_ends(rows):
+    ends = {}
+    for sign in range(1, len(rows[0]), 2):
+        if rows[0][sign] == "|":
+            ends["top", (sign - 1) // 2] = (0, sign, "upright")
+        if rows[-1][sign] == "|":
+            ends["bottom", (sign - 1) // 2] = (len(rows) - 1, sign, "upright")
+    for row in range(1, len(rows), 2):
+        if rows[row][0] == "-":
+            ends["left", (row - 1) // 2] = (row, 0, "across")
+        if rows[row][-1] == "-":
+            ends["right", (row - 1) // 2] = (row, len(rows[0]) - 1, "across")
+    return ends
+
+
+def reached_from(rows, place):
+    reached = {place}
+    waiting = [place]
+    while waiting:
+        row, sign, way = waiting.pop()
+        steps = [(row, sign - 1, way), (row, sign + 1, way)]
+        marks = ACROSS
+        if way == "upright":
+            steps = [(row - 1, sign, way), (row + 1, sign, way)]
+            marks = UPRIGHT
+        steps = [
+            step for step in steps
+            if 0 <= step[0] < len(rows) and 0 <= step[1] < len(rows[0]) and rows[step[0]][step[1]] in marks
+        ]
+        if rows[row][sign] == "+":
+            steps.append((row, sign, "across" if way == "upright" else "upright"))
+        for step in steps:
+            if step not in reached:
+                reached.add(step)
+                waiting.append(step)
+    return reached
+
+
+# Drawings that no layout has: any signs on the tracks, and between them what may be there.
+def any_drawing(chance, tracks, columns):
+    rows = [[" "] * (2 * columns + 1) for row in range(2 * tracks + 1)]
+    marks = chance.choice([" -|+#", "-|+#", "++#", "##+", " +", "|+", "-+"])
+    odd = [(row, sign) for row in range(1, 2 * tracks, 2) for sign in range(1, 2 * columns, 2)]
+    for row, sign in odd:
+        rows[row][sign] = chance.choice(marks)
+    full = chance.choice([0.3, 0.7, 1.0])
+    for row in range(2 * tracks + 1):
+        for sign in range(2 * columns + 1):
+            mark = {(0, 1): "|", (1, 0): "-"}.get((row % 2, sign % 2))
+            if mark and chance.random() < full:
+                rows[row][sign] = mark
+                if not may_stand(rows, row, sign):
+                    rows[row][sign] = " "
+    return "\n".join("".join(row) for row in rows)
+
+
+# Point 22, from the lists of the channel alone: the ends of each net, as they are drawn.
+def net_groups(layout):
+    channel = layout.channel
+    groups = {}
+    for side in ("top", "bottom"):
+        for column, name in enumerate(getattr(channel, side)):
+            groups.setdefault(name, []).append((side, column))
+    for side, place in (("left", 0), ("right", -1)):
+        for name in getattr(channel, side):
+            own = sorted((piece[1], track) for piece, track in zip(layout.pieces, layout.tracks) if piece[0] == name)
+            groups.setdefault(name, []).append((side, own[place][1]))
+    groups.pop(None, None)
+    return {name: sorted(group) for name, group in groups.items()}
+
+
+# All that lies within, in lists, tuples and dicts of its own: so that it can be compared, and stays.
+def plain(thing):
+    if isinstance(thing, (Channel, Layout)):
+        return plain(vars(thing))
+    if isinstance(thing, dict):
+        return {name: plain(value) for name, value in thing.items()}
+    if isinstance(thing, (list, tuple)):
+        return type(thing)([plain(member) for member in thing])
+    return thing
+
+
+# Changes all lists that lie within.
+def spoil(thing):
+    if isinstance(thing, (Channel, Layout)):
+        spoil(vars(thing))
+    if isinstance(thing, dict):
+        spoil(list(thing.values()))
+    if isinstance(thing, (list, tuple)):
+        for member in thing:
+            spoil(member)
+    if isinstance(thing, list):
+        thing.reverse()
+        thing.append("spoiled")
+
+
 # An answer that goes through all ways, or round a ring, would let the tests wait for ever.
 @contextlib.contextmanager
 def at_once(seconds=10):
@@ -154,18 +347,26 @@ class AskingCase(unittest.TestCase):
     def setUp(self):
         self.enterContext(at_once(30))
 
-    # What is handed in stays, and asked again the answer is the same.
+    # What is handed in stays; asked again the answer is the same, and changing it changes nothing else.
     def asked(self, ask, *given):
-        before = copy.deepcopy(given)
+        before = plain(given)
         told = ask(*given)
-        self.assertEqual(given, before)
-        self.assertEqual(ask(*given), told)
+        first = plain(told)
+        self.assertEqual(plain(given), before)
+        again = ask(*given)
+        self.assertEqual(plain(again), first)
+        spoil(again)
+        self.assertEqual(plain(given), before)
+        self.assertEqual(plain(told), first)
+        self.assertEqual(plain(ask(*given)), first)
         return told
 
-    # The refusal, of just this class and with just these fields.
+    # The refusal, of just this class and with just these fields; what is handed in stays.
     def refused(self, refusal, fields, ask, *given):
+        before = plain(given)
         with self.assertRaises(WireError) as caught:
             ask(*given)
+        self.assertEqual(plain(given), before)
         self.assertIs(type(caught.exception), refusal)
         self.assertIsInstance(caught.exception, ValueError)
         self.assertEqual(sorted(vars(caught.exception)), sorted(fields))

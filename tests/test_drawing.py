@@ -2,20 +2,11 @@ import copy
 import random
 import unittest
 
-from making import AskingCase, columns_of, good_channels, made, tangled_channels
-from wirechannel.above import above_of
+from making import AskingCase, columns_of, good_channels, made, sound_layouts, tangled_channels, with_tracks
 from wirechannel.drawing import drawn
-from wirechannel.layouts import Layout, fault_of, laid
-from wirechannel.packing import by_levels, by_rows
-from wirechannel.pieces import pieces_of
-from wirechannel.ranks import ranked
+from wirechannel.layouts import fault_of, laid
 
 TOP = -1
-
-
-def with_tracks(channel, bent, tracks):
-    pieces = pieces_of(channel, bent)
-    return Layout(channel, bent, pieces, above_of(channel, pieces), tracks)
 
 
 # Point 20, sign by sign. The edges count as tracks here: TOP ahead of track 0, and the count behind the last one.
@@ -488,30 +479,6 @@ class OtherTracksTest(DrawnCase):
             "-----+ ",
             "     | ",
         ])
-
-
-# Layouts of this channel that are sound: by levels and by rows, straight and bent, with free tracks or without.
-def sound_layouts(channel, chance):
-    layouts = []
-    for bent in (False, True):
-        pieces = pieces_of(channel, bent)
-        above = above_of(channel, pieces)
-        rank, levels = ranked(len(pieces), above)
-        if rank == "levels":
-            for tracks in (by_levels(pieces, levels), by_rows(pieces, above)):
-                layouts.append(Layout(channel, bent, pieces, above, tracks))
-                layouts.append(Layout(channel, bent, pieces, above, parted(tracks, chance)))
-    return layouts
-
-
-# The same tracks with some free ones put in: what lay above something lies above it still.
-def parted(tracks, chance):
-    moved = {}
-    more = 0
-    for track in sorted(set(tracks)):
-        more += chance.choice([0, 0, 1, 4])
-        moved[track] = track + more
-    return [moved[track] for track in tracks]
 
 
 class ManyTest(DrawnCase):

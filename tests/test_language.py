@@ -176,8 +176,11 @@ def node_faults(node, parent, tree, methods):
         yield from name_faults(node, node.name, False)
     elif isinstance(node, ast.ClassDef):
         yield from class_faults(node)
-    elif isinstance(node, ast.Assign) and len(node.targets) != 1:
-        yield node.lineno, "L6 targets"
+    elif isinstance(node, ast.Assign):
+        yield from assign_faults(node)
+    elif isinstance(node, ast.FormattedValue):
+        if not isinstance(node.value, ast.Name) or node.format_spec or node.conversion not in (-1, ord("r")):
+            yield node.lineno, "L7 f-string"
     elif isinstance(node, (ast.For, ast.While)) and node.orelse:
         yield node.lineno, "L6 else"
     elif isinstance(node, ast.Try) and node.finalbody:
@@ -207,6 +210,16 @@ def node_faults(node, parent, tree, methods):
         yield from compare_faults(node)
     elif isinstance(node, ast.Expr) and not isinstance(node.value, ast.Call) and not is_docstring(node):
         yield node.lineno, "L6 expression"
+
+
+def assign_faults(node):
+    if len(node.targets) != 1:
+        yield node.lineno, "L6 targets"
+    root = node.targets[0]
+    while isinstance(root, (ast.Attribute, ast.Subscript)):
+        root = root.value
+    if not isinstance(root, ast.Name):
+        yield node.lineno, "L18 not through a name"
 
 
 def compare_faults(node):
@@ -291,6 +304,8 @@ class CheckerTest(unittest.TestCase):
             "def f():\n    return zip(1, 2)\n", "def f():\n    return set([])\n", "def f():\n    return chr(1)\n",
             "# a type\n", "def _f():\n    pass\n", "x = 1\nx = 2\n", "def f(*, a):\n    pass\n",
             "def f():\n    return (x for x in y)\n", "def f():\n    with x:\n        pass\n",
+            "def f(x):\n    return f'{x.y}'\n", "def f(x):\n    return f'{x:3}'\n", "def f(x):\n    return f'{x!s}'\n",
+            "def f(x):\n    g(x)[0] = 1\n", "def f(x):\n    g(x).y = 1\n", "def f(x):\n    a, b = x\n",
             "def f():\n" + "    x = 1\n" * 40, "x = '" + "a" * 120 + "'\n", "x = '\x25'\n", "x = 1  #\t\n",
         ):
             with self.subTest(code):
@@ -301,6 +316,7 @@ class CheckerTest(unittest.TestCase):
             '"""Words."""\n\nfrom wirechannel.errors import BadText\n\nBOUND = 3\n\n\nclass Thing:\n'
             "    def __init__(self, parts):\n        self.parts = list(parts)\n\n\ndef f(xs, most=3):\n"
             "    for place, x in enumerate(xs):\n        if x is None:\n            raise BadText('words')\n"
+            "    xs[most].parts = f'{most} of {xs!r}'\n"
             "    return sorted(set([x for x in xs if x > 0]))\n"
         )
         self.assertEqual(faults_of(code), [])
